@@ -1,0 +1,1 @@
+"""Fewpoints: spaces of few points, folded down to their cores."""
