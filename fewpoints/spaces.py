@@ -10,9 +10,7 @@ MOST_POINTS = 16
 
 
 def made(many, pairs):
-    # The errors' words hold no numbers: a number may have more figures than Python turns into a text.
-    if not 1 <= many <= MOST_POINTS:
-        raise TooMany("a space has 1 to 16 points")
+    refuse_too_many(many)
     for a, b in pairs:
         if not (is_point(many, a) and is_point(many, b)):
             raise NoPoint("a pair has a number that is no point")
@@ -21,6 +19,12 @@ def made(many, pairs):
         if (point, point) in led:
             raise Round("pairs lead from a point back to it")
     return (many, tuple(sorted(led)))
+
+
+def refuse_too_many(many):
+    # The errors' words hold no numbers: a number may have more figures than Python turns into a text.
+    if not 1 <= many <= MOST_POINTS:
+        raise TooMany("a space has 1 to 16 points")
 
 
 # A dict with a key (a, b) wherever one or more pairs lead from a to b.

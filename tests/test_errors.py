@@ -1,9 +1,8 @@
 import unittest
 
 from fewpoints import errors
-from fewpoints.errors import NoFold, NoPoint, NotRead, Round, SpaceError, TooMany
-
-REFUSALS = (TooMany, NoPoint, Round, NoFold, NotRead)
+from fewpoints.errors import SpaceError
+from tests.helpers import REFUSALS
 
 
 class Errors(unittest.TestCase):

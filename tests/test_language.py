@@ -52,6 +52,20 @@ def bound_names(tree):
     return names
 
 
+def defined_at_top(path):
+    names = []
+    for part in ast.parse(path.read_text("utf-8")).body:
+        if isinstance(part, (ast.FunctionDef, ast.ClassDef)):
+            names.append(part.name)
+        elif isinstance(part, ast.Assign):
+            names.append(part.targets[0].id)
+    return names
+
+
+def drawn_from(tree):
+    return [node.module.partition(".")[2] + ".py" for node in ast.walk(tree) if isinstance(node, ast.ImportFrom)]
+
+
 class Files(unittest.TestCase):
     def test_l1_l14_the_folder(self):
         names = [path.name for path in PACKAGE.iterdir() if path.name != "__pycache__"]
@@ -83,8 +97,18 @@ class Trees(unittest.TestCase):
                 self.assertEqual((package, node.level), ("fewpoints", 0), name)
                 self.assertIn(module, names)
                 for alias in node.names:
-                    defined = ast.parse((PACKAGE / f"{module}.py").read_text("utf-8")).body
-                    self.assertIn(alias.name, [getattr(part, "name", None) for part in defined], name)
+                    self.assertIn(alias.name, defined_at_top(PACKAGE / f"{module}.py"), name)
+
+    def test_l16_no_file_draws_from_itself_over_others(self):
+        drawn = {name: drawn_from(tree) for name, tree in trees()}
+        for name in drawn:
+            waiting, seen = list(drawn[name]), set()
+            while waiting:
+                other = waiting.pop()
+                self.assertNotEqual(other, name)
+                if other not in seen:
+                    seen.add(other)
+                    waiting.extend(drawn[other])
 
     def test_l3_the_top_of_a_module(self):
         for name, tree in trees():
@@ -148,6 +172,38 @@ class Trees(unittest.TestCase):
             for bound in bound_names(tree):
                 self.assertRegex(bound, r"\A[A-Za-z][A-Za-z0-9_]*\Z", name)
                 self.assertNotIn(bound, python, name)
+
+    def test_l15_names_of_a_top(self):
+        for path, (name, tree) in zip(files(), trees()):
+            at_top = defined_at_top(path)
+            self.assertEqual(len(at_top), len(set(at_top)), name)
+            drawn = [alias.name for node in tree.body if isinstance(node, ast.ImportFrom) for alias in node.names]
+            classes = [node.name for node in tree.body if isinstance(node, ast.ClassDef)]
+            for node in ast.walk(tree):
+                if isinstance(node, ast.arg):
+                    self.assertNotIn(node.arg, drawn + classes, (name, node.lineno))
+                if isinstance(node, ast.Name) and isinstance(node.ctx, ast.Store):
+                    self.assertNotIn(node.id, drawn + classes, (name, node.lineno))
+
+    def test_l19_errors(self):
+        own = defined_at_top(PACKAGE / "errors.py")
+        for name, node in nodes():
+            if isinstance(node, ast.ExceptHandler):
+                self.assertIn(node.type.id, own, name)
+            if isinstance(node, ast.Raise):
+                self.assertIn(node.exc.func.id, own, name)
+
+    def test_l24_sets(self):
+        for name, tree in trees():
+            held = [
+                part
+                for node in ast.walk(tree)
+                if isinstance(node, ast.Call) and getattr(node.func, "id", None) in ("sorted", "len")
+                for part in node.args
+            ]
+            for node in ast.walk(tree):
+                if isinstance(node, ast.Call) and getattr(node.func, "id", None) in ("set", "frozenset"):
+                    self.assertIn(node, held, (name, node.lineno))
 
     def test_l20_is(self):
         for name, node in nodes():

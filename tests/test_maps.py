@@ -3,6 +3,7 @@ import unittest
 
 from fewpoints.maps import below, is_fence, is_map, many_maps
 from tests.helpers import (
+    FAR,
     all_maps,
     all_rows,
     all_spaces,
@@ -15,7 +16,6 @@ from tests.helpers import (
     space_of,
 )
 
-FAR = 10**12
 VEE = space_of(3, [(0, 1), (0, 2)])
 CROWN = space_of(4, [(0, 2), (0, 3), (1, 2), (1, 3)])
 

@@ -1,9 +1,12 @@
 import itertools
 import unittest
 
-from fewpoints.errors import NoFold, NoPoint, NotRead, Round, SpaceError, TooMany
+from fewpoints.errors import NoPoint, Round, SpaceError, TooMany
 from fewpoints.spaces import even_count, made, pieces, under
 from tests.helpers import (
+    FAR,
+    FARTHER,
+    Refusing,
     all_spaces,
     apart,
     chain,
@@ -14,20 +17,6 @@ from tests.helpers import (
     some_spaces,
     space_of,
 )
-
-REFUSALS = (TooMany, NoPoint, Round, NoFold, NotRead)
-FAR = 10**12
-# More figures than Python turns into a text: an error's words must not stumble over it.
-FARTHER = 10**6000
-
-
-class Refusing(unittest.TestCase):
-    def assert_refused(self, refusal, call, *arguments):
-        for caught in (refusal, SpaceError, ValueError):
-            with self.assertRaises(caught) as context:
-                call(*arguments)
-            for other in REFUSALS:
-                self.assertEqual(isinstance(context.exception, other), other is refusal)
 
 
 class Made(Refusing):
